@@ -4,6 +4,7 @@ package keystone
 import (
 	"keystone/api"
 	"keystone/digest"
+	"keystone/manifest"
 	"keystone/signature"
 )
 
@@ -24,10 +25,10 @@ func Verify(key string, b []byte, sign string) bool {
 }
 
 // Pack makes bytes of a manifest (P6).
-func Pack(m api.Manifest) ([]byte, api.Errno) { return nil, api.OK }
+func Pack(m api.Manifest) ([]byte, api.Errno) { return manifest.Pack(m) }
 
 // Unpack reads a manifest; how many bytes it has (P6).
-func Unpack(b []byte) (api.Manifest, int, api.Errno) { return api.Manifest{}, 0, api.OK }
+func Unpack(b []byte) (api.Manifest, int, api.Errno) { return manifest.Unpack(b) }
 
 // Boot boots, or does not (P7 to P10).
 func Boot(flash []byte, key string, fuse int, faults []int, cut int) api.Report {
