@@ -3,6 +3,7 @@ package keystone
 
 import (
 	"keystone/api"
+	"keystone/boot"
 	"keystone/digest"
 	"keystone/manifest"
 	"keystone/signature"
@@ -32,5 +33,5 @@ func Unpack(b []byte) (api.Manifest, int, api.Errno) { return manifest.Unpack(b)
 
 // Boot boots, or does not (P7 to P10).
 func Boot(flash []byte, key string, fuse int, faults []int, cut int) api.Report {
-	return api.Report{}
+	return boot.Boot(flash, key, fuse, faults, cut)
 }

@@ -3,7 +3,13 @@ package keystone
 // A second reckoning by the document's words, by other ways than the program:
 // all is joined to one string first, and the tree is gone down from its top.
 
-import "math/big"
+import (
+	"math/big"
+	"slices"
+	"strings"
+
+	"keystone/api"
+)
 
 // model is D: strings as they are, numbers as one byte.
 func model(parts ...any) string {
@@ -113,4 +119,65 @@ func modelOutcome(b, sign string) string {
 		}
 	}
 	return node
+}
+
+// modelBoot is a boot by the document's words, one core behind the other. Only
+// Verify is the program's own, which other tests hold against modelOutcome.
+func modelBoot(flash, key string, fuse int, faults []int, cut int) api.Report {
+	r := api.Report{Register: strings.Repeat("\x00", 8), Fuse: fuse}
+	m, n, ok := modelUnpack(flash)
+	switch {
+	case len(flash) > 65536 || !ok || len(flash) < n+169:
+		r.Err = api.ErrManifest
+	case modelFaulty(faults, 0, n+169):
+		r.Err = api.ErrRead
+	case !Verify(key, []byte(flash[:n]), flash[n:n+169]):
+		r.Err = api.ErrSign
+	case m.Version < fuse:
+		r.Err = api.ErrOld
+	}
+	if r.Err != api.OK {
+		return r
+	}
+	var starts []api.Start
+	for core, p := range m.Parts {
+		code := api.ErrRead
+		if p.Off+p.Len <= len(flash) && !modelFaulty(faults, p.Off, p.Off+p.Len) {
+			image := flash[p.Off : p.Off+p.Len]
+			measured := modelDigest(image)
+			r.Log = append(r.Log, api.Entry{Core: core, Digest: measured})
+			r.Register = model(5, core, r.Register, measured)
+			starts = append(starts, api.Start{Core: core, At: p.At, Image: image})
+			code = api.OK
+			if measured != p.Digest {
+				code = api.ErrDigest
+			}
+		}
+		r.Codes = append(r.Codes, code)
+		if r.Err == api.OK {
+			r.Err = code
+		}
+	}
+	if r.Err != api.OK {
+		return r
+	}
+	if cut != 1 && m.Version > fuse {
+		r.Fuse = m.Version
+	}
+	if cut == 1 || cut == 2 {
+		r.Err = api.ErrCut
+		return r
+	}
+	r.Starts = starts
+	return r
+}
+
+// modelFaulty asks each address, not each fault.
+func modelFaulty(faults []int, from, to int) bool {
+	for at := from; at < to; at++ {
+		if slices.Contains(faults, at) {
+			return true
+		}
+	}
+	return false
 }
